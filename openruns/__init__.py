@@ -1,0 +1,1 @@
+"""Openruns: runs that live by replay, and programs that change while runs are open."""

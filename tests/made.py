@@ -1,0 +1,105 @@
+"""Programs made by chance, always the same ones for the same seed."""
+
+LABELS = ["a", "b", "c", "s", "t", "u"]
+SLOTS = ["x", "y"]
+WORDS = ["no", "yes", "rang", "none", "a", "t"]
+ASKS = {"pay": ("no", "yes"), "tell": ("yes",)}
+SIGNALS = {"stop": (2, ("no", "yes")), "call": (1, ("a",))}
+KINDS = {"start": 5, "await": 7, "first": 4, "drop": 2, "take": 3, "note": 2, "put": 2, "end": 1, "anew": 1}
+SHELLS = {"if": 4, "loop": 3, "part": 1, "both": 8, "gate": 1, "past": 1}
+SAFE = 0.93
+
+
+class Maker:
+    """Makes rows; held are the labels that are probably not free where a row will stand."""
+
+    def __init__(self, chance):
+        self.chance = chance
+
+    def kind_of(self, weights):
+        return self.chance.choices(list(weights), list(weights.values()))[0]
+
+    def rows(self, depth, in_loop, labels, held, most):
+        rows = []
+        for _ in range(self.chance.randint(0 if depth > 1 else 2, most)):
+            if in_loop and self.chance.random() < 0.12:
+                rows.append(("leave",))
+            elif depth < 5 and self.chance.random() < 0.34:
+                rows.append(self.shell(depth, in_loop, labels, held))
+            else:
+                rows += self.plain(labels, held)
+        return rows
+
+    def start(self, label):
+        return self.chance.choice([("timer", label), ("ask", self.chance.choice(list(ASKS)), label)])
+
+    def started(self, labels, held):
+        """Rows that start what the labels lack, mostly."""
+        missing = [label for label in labels if label not in held and self.chance.random() < SAFE]
+        held.update(missing)
+        return [self.start(label) for label in missing]
+
+    def plain(self, labels, held):
+        chance, kind = self.chance, self.kind_of(KINDS)
+        label, slot, word = chance.choice(labels), chance.choice(SLOTS), chance.choice(WORDS)
+        if kind == "start":
+            before = [("drop", label)] if label in held and chance.random() < SAFE else []
+            held.add(label)
+            return before + [self.start(label)]
+        if kind == "await":
+            before = self.started([label], held)
+            held.discard(label)
+            return before + [("await", label, slot)]
+        if kind == "first":
+            some = tuple(chance.sample(labels, chance.randint(1, min(3, len(labels)))))
+            return self.started(some, held) + [("first", some, slot)]
+        if kind == "drop":
+            held.discard(label)
+            return [("drop", label)]
+        if kind == "note":
+            return [("note", slot, ("no",) + tuple(chance.sample(WORDS[1:], chance.randint(0, 2))))]
+        if kind in ("end", "anew"):
+            return [(kind, chance.choice(SLOTS + ["in"]))]
+        return [("take", chance.choice(list(SIGNALS)), slot) if kind == "take" else ("put", slot, word)]
+
+    def shell(self, depth, in_loop, labels, held):
+        chance, kind = self.chance, self.kind_of(SHELLS)
+        if kind == "both":
+            return self.both(depth, labels, held)
+        inner = in_loop or kind == "loop"
+        lists = [self.rows(depth + 1, inner, labels, set(held), 3) for _ in range(2)]
+        if kind == "if":
+            return ("if", chance.choice(SLOTS + ["in"]), chance.choice(WORDS), lists[0], lists[1])
+        if kind == "gate":
+            return ("gate", chance.choice("gh"), lists[0], lists[1])
+        if kind == "past":
+            return ("past", chance.choice("gh"), lists[0])
+        return (kind, lists[0])
+
+    def both(self, depth, labels, held):
+        """A both row; mostly each side has labels of its own."""
+        many = self.chance.randint(2, 3)
+        sides = []
+        for number in range(many):
+            own = labels[number::many] if self.chance.random() < 0.85 else labels
+            sides.append(self.rows(depth + 1, False, own or labels, set(held), 4))
+        return ("both", tuple(sides))
+
+
+def made_program(chance, program):
+    while True:
+        rows = Maker(chance).rows(1, False, LABELS, set(), 6)
+        if size(rows) <= 60:
+            return program(rows, asks=ASKS, signals=SIGNALS, inputs=("yes", "no"))
+
+
+def size(rows):
+    total = 0
+    for row in rows:
+        total += 1
+        for part in row[1:]:
+            if isinstance(part, list):
+                total += size(part)
+            elif row[0] == "both":
+                total += sum(size(side) for side in part)
+    return total

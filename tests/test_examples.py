@@ -1,0 +1,67 @@
+"""The examples of the interface, as they are printed there."""
+
+import ast
+import unittest
+
+from openruns import errors
+
+PROGRAMS = """
+>>> from openruns.programs import Program
+>>> Program([("put", "x", "a"), ("loop", [("leave",), ("end", "y")])]).paths()
+[(0,), (1,), (1, 0, 0), (1, 0, 1)]
+
+>>> from openruns.programs import Program
+>>> Program([("loop", [("both", ([("leave",)], []))])])
+raises InvalidProgram
+"""
+
+RUNS = """
+>>> from openruns.programs import Program
+>>> from openruns.runs import Run
+>>> rows = [("ask", "pay", "a"), ("timer", "t"), ("first", ("a", "t"), "x"), ("drop", "a"), ("end", "x")]
+>>> run = Run(Program(rows, asks={"pay": ("no", "yes")}), "go")
+>>> run.outer()
+[('answer', 0, 'no'), ('answer', 0, 'yes'), ('rang', 1)]
+>>> run(("rang", 1))
+[('dropped', 0), ('ended', 't')]
+>>> run.standing()
+('over', 't')
+"""
+
+
+class ExamplesTest(unittest.TestCase):
+    def check(self, text):
+        for session in text.strip().split("\n\n"):
+            self.check_session(session.split("\n"))
+
+    def check_session(self, lines):
+        names = {}
+        for at, line in enumerate(lines):
+            if line.startswith(">>> "):
+                expected = lines[at + 1] if at + 1 < len(lines) and not lines[at + 1].startswith(">>> ") else None
+                self.check_step(line[4:], expected, names)
+
+    def check_step(self, source, expected, names):
+        is_expression = isinstance(ast.parse(source).body[0], ast.Expr)
+        if expected is not None and expected.startswith("raises "):
+            with self.assertRaises(getattr(errors, expected[7:])):
+                eval(source, names)
+        elif is_expression:
+            value = eval(source, names)
+            self.assertEqual(None if value is None else repr(value), expected, source)
+        else:
+            exec(source, names)
+
+    def test_programs(self):
+        self.check(PROGRAMS)
+
+    def test_runs(self):
+        self.check(RUNS)
+
+    def test_a_wrong_example_is_noticed(self):
+        for text in (RUNS.replace("('over', 't')", "('over', 'x')"), PROGRAMS.replace("(1,), ", "")):
+            self.assertRaises(AssertionError, self.check, text)
+
+
+if __name__ == "__main__":
+    unittest.main()
