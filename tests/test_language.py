@@ -45,9 +45,7 @@ def source(path):
 
 class LanguageTest(unittest.TestCase):
     def each_tree(self):
-        for path in files():
-            with self.subTest(os.path.basename(path)):
-                yield path, ast.parse(source(path))
+        return [(path, ast.parse(source(path))) for path in files()]
 
     def each_node(self, *kinds):
         for _, tree in self.each_tree():
