@@ -1,6 +1,7 @@
 """Moments: what a run is between two turns, and its standing."""
 
 from openruns.forms import INPUT_SLOT
+from openruns.words import is_same
 
 NO_WORD = "none"
 RANG = "rang"
@@ -95,6 +96,32 @@ def outer_tokens(program, moment):
     return sorted(tokens)
 
 
+def may_come(program, moment, token):
+    """Tell whether any value is an outer token that may come."""
+    return any([is_same(token, other) for other in outer_tokens(program, moment)])
+
+
+def moment_by_age(moment):
+    """Return a moment with its open things numbered 0, 1, .. in the order in which they were started."""
+    twin = moment.twin()
+    running = running_things(moment)
+    twin.labels = {label: state_by_age(state, running) for label, state in moment.labels.items()}
+    twin.started = len(running)
+    return twin
+
+
+def state_by_age(state, running):
+    """Return what a label is under, with the thing numbered by its place among the open ones."""
+    if state[0] == "done":
+        return state
+    return (state[0], running.index(state[1])) + state[2:]
+
+
+def running_things(moment):
+    """Return the numbers of the open things, ascending."""
+    return sorted([state[1] for state in moment.labels.values() if state[0] != "done"])
+
+
 def standing_of(program, moment):
     """Return the standing of a run."""
     if moment.closing is not None:
@@ -114,11 +141,11 @@ def waits_of(plan, moment):
 
 def labels_of(moment):
     """Return what a standing tells of the labels, with things and done labels by their ranks."""
-    running = sorted([state[1] for state in moment.labels.values() if state[0] != "done"])
+    running = running_things(moment)
     told = []
     for label, state in moment.labels.items():
         if state[0] == "done":
             told.append((label, "done", state[1], moment.finished.index(label)))
         else:
-            told.append((label, state[0], running.index(state[1])) + state[2:])
+            told.append((label,) + state_by_age(state, running))
     return tuple(sorted(told))

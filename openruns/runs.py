@@ -1,10 +1,10 @@
 """Runs: a program and the history of one run, which goes on by live turns."""
 
 from openruns.errors import InvalidArgument
-from openruns.moments import outer_tokens, standing_of
+from openruns.moments import may_come, outer_tokens, standing_of
 from openruns.programs import Program
-from openruns.turns import LivePen, moment_after
-from openruns.words import are_notes, is_integer
+from openruns.turns import LivePen, turn_done
+from openruns.words import are_notes
 
 
 class Run:
@@ -28,7 +28,7 @@ class Run:
 
     def tell(self, token, notes=()):
         """Do a live turn and return the list of its commands."""
-        if not self.may_come(token):
+        if not may_come(self.program, self.moment, token):
             raise InvalidArgument("token")
         if not are_notes(notes):
             raise InvalidArgument("notes")
@@ -54,19 +54,10 @@ class Run:
         """True if the run is over."""
         return self.moment.closing is not None
 
-    def may_come(self, token):
-        """Tell whether any value is an outer token that may come."""
-        if not isinstance(token, tuple):
-            return False
-        # Without this, True would pass for the thing 1.
-        if not all([isinstance(part, str) or is_integer(part) for part in token]):
-            return False
-        return token in self.outer()
-
     def do_turn(self, token, notes):
         """Do a live turn; if it falls or lacks a note, nothing has changed."""
         pen = LivePen(notes)
-        self.moment = moment_after(self.program, self.moment, token, pen)
+        self.moment = turn_done(self.program, self.moment, token, pen).moment
         self.tokens.append(token)
         self.tokens.extend(pen.written)
         return pen.written

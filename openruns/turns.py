@@ -33,15 +33,18 @@ class LivePen:
         self.write(("marked", name))
         return True
 
+    def pass_gate(self, name):
+        """Take the mark of a past row's gate that is not settled yet: live, there is none."""
+
 
 class Turn:
-    """A turn whose rows are being done."""
+    """A turn whose rows are being done; done lists the numbers of those that it has come to."""
 
     def __init__(self, program, moment, pen):
         self.plan = program.plan
         self.moment = moment
         self.pen = pen
-        self.rows_done = 0
+        self.done = []
         self.notes_done = 0
 
     def first_ready(self):
@@ -70,9 +73,9 @@ class Turn:
 
     def come_to(self, row):
         """Do the row that a branch comes to, and return the place where it goes on."""
-        if self.rows_done == MOST_ROWS_DONE:
+        if len(self.done) == MOST_ROWS_DONE:
             self.fall("long", row)
-        self.rows_done += 1
+        self.done.append(row)
         parts = self.plan.flat[row]
         doer = DOERS[parts[0]]
         return doer(self, row, parts)
@@ -93,14 +96,14 @@ class Turn:
         raise Falls(word, self.plan.places[row])
 
 
-def moment_after(program, moment, token, pen):
-    """Return the moment after a turn; the given one does not change."""
+def turn_done(program, moment, token, pen):
+    """Do a turn and return it; the given moment does not change."""
     turn = Turn(program, moment_behind(program, moment, token), pen)
     branch = turn.first_ready()
     while branch is not None:
         turn.go_on(branch)
         branch = turn.first_ready()
-    return turn.moment
+    return turn
 
 
 def do_start(turn, row, parts):
@@ -196,6 +199,7 @@ def do_gate(turn, row, parts):
 def do_past(turn, row, parts):
     """Do the rows of a past row, however its gate is settled."""
     if parts[1] not in turn.moment.gates:
+        turn.pen.pass_gate(parts[1])
         turn.moment.gates[parts[1]] = True
     return turn.plan.entries[row][0]
 

@@ -1,4 +1,4 @@
-"""What words and integers are."""
+"""What words and integers are, and when values are the same."""
 
 LONGEST_WORD = 8
 
@@ -25,3 +25,14 @@ def are_words(value, most):
 def are_notes(value):
     """Tell whether any value is a list or tuple of words."""
     return isinstance(value, (list, tuple)) and all([is_word(word) for word in value])
+
+
+def is_same(value, told):
+    """Tell whether any value equals one of words, integers, flags and tuples, with integers and flags told apart."""
+    if isinstance(told, tuple):
+        if not isinstance(value, tuple) or len(value) != len(told):
+            return False
+        return all([is_same(part, other) for part, other in zip(value, told)])
+    if isinstance(told, str):
+        return isinstance(value, str) and value == told
+    return isinstance(value, int) and isinstance(value, bool) == isinstance(told, bool) and value == told

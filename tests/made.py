@@ -9,12 +9,19 @@ KINDS = {"start": 5, "await": 7, "first": 4, "drop": 2, "take": 3, "note": 2, "p
 SHELLS = {"if": 4, "loop": 3, "part": 1, "both": 8, "gate": 1, "past": 1}
 SAFE = 0.93
 
+# For searches: fewer words and signals, so that there are fewer histories, and more gates.
+FEW_SIGNALS = {"stop": (1, ("no",)), "call": (1, ("a",))}
+FEW_KINDS = {"start": 5, "await": 7, "first": 3, "drop": 2, "take": 1, "note": 2, "put": 2, "end": 2, "anew": 1}
+FEW_SHELLS = {"if": 4, "loop": 3, "part": 1, "both": 3, "gate": 4, "past": 3}
+
 
 class Maker:
     """Makes rows; held are the labels that are probably not free where a row will stand."""
 
-    def __init__(self, chance):
+    def __init__(self, chance, kinds=KINDS, shells=SHELLS):
         self.chance = chance
+        self.kinds = kinds
+        self.shells = shells
 
     def kind_of(self, weights):
         return self.chance.choices(list(weights), list(weights.values()))[0]
@@ -40,7 +47,7 @@ class Maker:
         return [self.start(label) for label in missing]
 
     def plain(self, labels, held):
-        chance, kind = self.chance, self.kind_of(KINDS)
+        chance, kind = self.chance, self.kind_of(self.kinds)
         label, slot, word = chance.choice(labels), chance.choice(SLOTS), chance.choice(WORDS)
         if kind == "start":
             before = [("drop", label)] if label in held and chance.random() < SAFE else []
@@ -63,7 +70,7 @@ class Maker:
         return [("take", chance.choice(list(SIGNALS)), slot) if kind == "take" else ("put", slot, word)]
 
     def shell(self, depth, in_loop, labels, held):
-        chance, kind = self.chance, self.kind_of(SHELLS)
+        chance, kind = self.chance, self.kind_of(self.shells)
         if kind == "both":
             return self.both(depth, labels, held)
         inner = in_loop or kind == "loop"
@@ -91,6 +98,41 @@ def made_program(chance, program):
         rows = Maker(chance).rows(1, False, LABELS, set(), 6)
         if size(rows) <= 60:
             return program(rows, asks=ASKS, signals=SIGNALS, inputs=("yes", "no"))
+
+
+def small_program(chance, program):
+    """A program with few histories; with signals or without."""
+    signals = chance.choice([{}, {}, FEW_SIGNALS])
+    kinds = dict(FEW_KINDS, take=1 if signals else 0, note=chance.choice([2, 2, 12]))
+    while True:
+        rows = Maker(chance, kinds, FEW_SHELLS).rows(1, False, LABELS[:4], set(), 5)
+        if size(rows) <= 60:
+            return program(rows, asks=ASKS, signals=signals, inputs=chance.choice([("no",), ("yes", "no")]))
+
+
+def round_program(chance, program):
+    """A program that goes round in loops of several turns, mostly."""
+    while True:
+        rows = round_steps(chance, 1)
+        if size(rows) <= 60:
+            return program(rows, asks=ASKS, inputs=chance.choice([("no",), ("yes", "no")]))
+
+
+def round_steps(chance, depth):
+    rows = []
+    for _ in range(chance.randint(1, 3)):
+        rows += [chance.choice([("timer", "t"), ("ask", "pay", "t")]), ("await", "t", chance.choice(SLOTS))]
+        many = chance.random()
+        if many < 0.25:
+            rows.append(("put", chance.choice(SLOTS), chance.choice(["yes", "none"])))
+        elif many < 0.4:
+            rows.append(("note", chance.choice(SLOTS), chance.choice([("no",), ("yes", "no")])))
+        elif many < 0.7 and depth < 4:
+            rows.append(("loop", round_steps(chance, depth + 1) + [("put", "y", "no")][:chance.randint(0, 1)]))
+        elif many < 0.9 and depth < 5:
+            last = ("leave",) if depth > 1 and chance.random() < 0.7 else ("end", "x")
+            rows.append(("if", chance.choice(["x", "y", "in"]), "yes", [last], []))
+    return rows
 
 
 def size(rows):

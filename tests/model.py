@@ -56,6 +56,7 @@ class World:
         self.labels = {}
         self.clock = 0
         self.gates = {}
+        self.done = set()
         self.history = []
         self.closing = None
         self.slots = {slot: "none" for slot in program.names()["slots"]}
@@ -103,6 +104,7 @@ class World:
                 if self.rows_done >= 200:
                     raise ModelFalls("long", path)
                 self.rows_done += 1
+                self.done.add(path)
                 if row[0] != "loop":
                     yield from getattr(self, "do_" + row[0].replace("if", "choice"))(path, *row[1:])
                     break
@@ -253,3 +255,80 @@ class ModelRun:
         history = self.world(turns).history
         self.turns = turns
         return history[before + 1:]
+
+
+class ModelBreaks(Exception):
+    pass
+
+
+class ReadingWorld(World):
+    """One run that is read from its begin turn; it is of no use any more when the reading has broken."""
+
+    def read_turn(self, turn, start):
+        self.stock = list(turn[1:])
+        self.place = start + 1
+        word = self.fault(turn[0])
+        if word:
+            raise ModelBreaks(start, word)
+        try:
+            self.turn(turn[0], ())
+        except ModelFalls:
+            raise ModelBreaks(start, "falls")
+        if self.stock:
+            raise ModelBreaks(self.place, "fewer")
+
+    def fault(self, token):
+        if token[0] == "begin" and token[1] not in self.program.inputs():
+            return "word"
+        if token[0] == "answer" and token[2] not in self.program.asks()[self.things[token[1]]["name"]]:
+            return "word"
+        if token[0] == "signal":
+            room, words = self.program.signals().get(token[1], (0, ()))
+            if token[2] not in words:
+                return "word"
+            if len(self.boxes[token[1]]) == room:
+                return "full"
+
+    def taken(self, fits):
+        if not self.stock:
+            raise ModelBreaks(self.place, "more")
+        if not fits(self.stock[0]):
+            raise ModelBreaks(self.place, "other")
+        self.place += 1
+        return self.stock.pop(0)
+
+    def write(self, command):
+        World.write(self, self.taken(lambda token: token == command))
+
+    def do_note(self, path, slot, words):
+        if self.notes_done == 3:
+            raise ModelFalls("notes", path)
+        self.notes_done += 1
+        command = self.taken(lambda token: token in [("noted", word) for word in words])
+        self.slots[slot] = command[1]
+        self.history.append(command)
+        yield from ()
+
+    def do_gate(self, path, name, new, old):
+        if name not in self.gates:
+            self.gates[name] = self.stock[:1] == [("marked", name)]
+            if self.gates[name]:
+                self.write(("marked", name))
+        number = 0 if self.gates[name] else 1
+        yield from self.walk([new, old][number], path + (number,))
+
+    def do_past(self, path, name, rows):
+        if name not in self.gates and self.stock[:1] == [("marked", name)]:
+            self.write(("marked", name))
+        self.gates[name] = self.gates.get(name, True)
+        yield from self.walk(rows, path + (0,))
+
+
+def read_world(program, turns):
+    """The world behind turns that are read; ModelBreaks if the reading breaks."""
+    world = ReadingWorld(program)
+    start = 0
+    for turn in turns:
+        world.read_turn(turn, start)
+        start += len(turn)
+    return world

@@ -28,6 +28,41 @@ RUNS = """
 ('over', 't')
 """
 
+READING = """
+>>> from openruns.programs import Program
+>>> from openruns.reading import read
+>>> program = Program([("timer", "t"), ("gate", "g", [("timer", "u")], []), ("await", "t", "x")])
+>>> read(program, [("begin", "go"), ("set",), ("marked", "g"), ("set",)])
+('reads', ('at', ((2,),), (('in', 'go'), ('x', 'none')), (('t', 'timer', 0), ('u', 'timer', 1)), (), (('g', True),)))
+
+>>> from openruns.programs import Program
+>>> from openruns.reading import read
+>>> program = Program([("timer", "t"), ("gate", "g", [("timer", "u")], []), ("await", "t", "x")])
+>>> read(program, [("begin", "go"), ("set",), ("set",), ("rang", 0), ("ended", "done")])
+('breaks', 2, 'fewer')
+"""
+
+# The line with the two standings is too long to stand here in one piece.
+BOOKS = """
+>>> from openruns.programs import Program
+>>> from openruns.books import Book
+>>> book = Book(Program([("timer", "t"), ("loop", [("await", "t", "x"), ("timer", "t")])]))
+>>> book.standings()
+[%s, %s]
+>>> book.least_history(book.standings()[1])
+[('begin', 'go'), ('set',), ('rang', 0), ('set',)]
+>>> book.trapped() == book.standings()
+True
+""" % tuple("('at', ((1, 0, 0),), (('in', 'go'), ('x', '" + word + "')), (('t', 'timer', 0),), (), ())" for word in ("none", "rang"))
+
+OUTLOOK = """
+>>> from openruns.programs import Program
+>>> from openruns.outlook import Outlook
+>>> outlook = Outlook(Program([("timer", "t"), ("loop", [("await", "t", "x"), ("timer", "t")])]))
+>>> outlook.ring()
+([('begin', 'go'), ('set',), ('rang', 0), ('set',), ('rang', 1), ('set',)], 2)
+"""
+
 
 class ExamplesTest(unittest.TestCase):
     def check(self, text):
@@ -57,6 +92,15 @@ class ExamplesTest(unittest.TestCase):
 
     def test_runs(self):
         self.check(RUNS)
+
+    def test_reading(self):
+        self.check(READING)
+
+    def test_books(self):
+        self.check(BOOKS)
+
+    def test_outlook(self):
+        self.check(OUTLOOK)
 
     def test_a_wrong_example_is_noticed(self):
         for text in (RUNS.replace("('over', 't')", "('over', 'x')"), PROGRAMS.replace("(1,), ", "")):

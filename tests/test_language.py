@@ -8,6 +8,7 @@ import tokenize
 import unittest
 
 import openruns
+from openruns import errors
 
 FOLDER = os.path.dirname(openruns.__file__)
 STATEMENTS = (
@@ -175,6 +176,49 @@ class LanguageTest(unittest.TestCase):
                 for operator, right in zip(node.ops, node.comparators):
                     if isinstance(operator, (ast.Is, ast.IsNot)):
                         self.assertIsInstance(right, ast.Constant)
+
+    def test_what_is_iterated_at_once_is_not_stored(self):
+        for _, tree in self.each_tree():
+            allowed = set()
+            for node in ast.walk(tree):
+                if isinstance(node, (ast.For, ast.comprehension)):
+                    allowed.add(node.iter)
+                elif isinstance(node, ast.Call) and isinstance(node.func, ast.Name) and node.args:
+                    if node.func.id in "list tuple dict sorted sum any all enumerate zip min max reversed len".split():
+                        allowed.add(node.args[0])
+                    if node.func.id == "zip":
+                        allowed.update(node.args)
+            for node in ast.walk(tree):
+                if isinstance(node, ast.Call) and self.called(node) in ("zip", "enumerate", "range", "reversed", "items", "keys", "values"):
+                    self.assertIn(node, allowed, ast.unparse(node))
+
+    def called(self, node):
+        return node.func.id if isinstance(node.func, ast.Name) else getattr(node.func, "attr", "")
+
+    def test_loops_do_not_change_what_they_iterate_over(self):
+        for loop in self.each_node(ast.For):
+            iterated = {ast.unparse(node) for node in ast.walk(loop.iter) if isinstance(node, (ast.Name, ast.Attribute, ast.Subscript))}
+            for node in [part for row in loop.body for part in ast.walk(row)]:
+                if isinstance(node, ast.Call) and isinstance(node.func, ast.Attribute):
+                    if node.func.attr in "append extend insert pop remove clear update reverse setdefault".split():
+                        self.assertNotIn(ast.unparse(node.func.value), iterated)
+                if isinstance(node, ast.Subscript) and not isinstance(node.ctx, ast.Load):
+                    self.assertNotIn(ast.unparse(node.value), iterated)
+
+    def test_sets_stand_where_they_may(self):
+        """The package stores no sets."""
+        for _, tree in self.each_tree():
+            allowed = set()
+            for node in ast.walk(tree):
+                if isinstance(node, ast.Call) and self.called(node) in ("sorted", "len"):
+                    allowed.update(node.args)
+            for node in ast.walk(tree):
+                if isinstance(node, (ast.Set, ast.SetComp)) or isinstance(node, ast.Call) and self.called(node) == "set":
+                    self.assertIn(node, allowed, ast.unparse(node))
+
+    def test_own_errors_alone_are_caught(self):
+        for node in self.each_node(ast.ExceptHandler):
+            self.assertIn(node.type.id, vars(errors))
 
     def test_errors_are_created_on_the_spot(self):
         for node in self.each_node(ast.Raise):
