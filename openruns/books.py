@@ -1,15 +1,14 @@
 """Books of standings: all that histories of one kind come to, and how turns lead from one to another."""
 
+from openruns.arguments import check_integer, check_kind, check_program
 from openruns.errors import InvalidArgument
 from openruns.graphs import nodes_before, steps_to
 from openruns.moments import may_come, standing_of
-from openruns.programs import Program
 from openruns.reading import numbered
 from openruns.searches import FALL_WORDS, Search, number_of, numbers_behind, numbers_over, turns_to
 from openruns.turns import LivePen, turn_done
-from openruns.words import are_notes, is_integer
+from openruns.words import are_notes
 
-KINDS = ("write", "read")
 MOST_STANDINGS = 1000
 
 
@@ -17,12 +16,9 @@ class Book:
     """All standings of a program that histories of one kind have."""
 
     def __init__(self, program, *, kind="write", limit=1000):
-        if not isinstance(program, Program):
-            raise InvalidArgument("program")
-        if not isinstance(kind, str) or kind not in KINDS:
-            raise InvalidArgument("kind")
-        if not is_integer(limit) or not 1 <= limit <= MOST_STANDINGS:
-            raise InvalidArgument("limit")
+        check_program(program, "program")
+        check_kind(kind)
+        check_integer(limit, 1, MOST_STANDINGS, "limit")
         self.search = Search(program, kind, limit)
 
     def standings(self):

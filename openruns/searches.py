@@ -2,7 +2,7 @@
 
 from openruns.choices import tried_turns
 from openruns.errors import LimitExceeded
-from openruns.moments import moment_by_age, standing_of
+from openruns.grounds import Ground
 from openruns.words import is_same
 
 FALL_WORDS = ("busy", "free", "long", "notes")
@@ -28,9 +28,9 @@ class Search:
         self.program = program
         self.kind = kind
         self.limit = limit
-        self.found = []
-        self.numbers = {}
-        self.moments = []
+        self.ground = Ground(program)
+        self.found = self.ground.found
+        self.moments = self.ground.moments
         self.roads = []
         self.origins = []
         self.levels = []
@@ -42,8 +42,7 @@ class Search:
 
     def roads_from(self, number):
         """Return the turns from a standing; None stands for the empty beginning."""
-        moment = None if number is None else self.moments[number]
-        kept, fallen = tried_turns(self.program, moment, self.kind)
+        kept, fallen = tried_turns(self.program, self.ground.moment_at(number), self.kind)
         self.keep_falls(number, fallen)
         roads = []
         # The least histories come in order only if the turns are gone over in theirs.
@@ -63,23 +62,20 @@ class Search:
 
     def number_behind(self, number, turn, after):
         """Return the number of the standing behind a turn, which may be a new one."""
-        standing = standing_of(self.program, after)
-        if standing not in self.numbers:
-            if len(self.found) == self.limit:
-                raise LimitExceeded(self.limit)
-            self.numbers[standing] = len(self.found)
-            self.found.append(standing)
-            self.moments.append(moment_by_age(after))
+        behind = self.ground.number_at(after)
+        if behind == self.limit:
+            raise LimitExceeded(self.limit)
+        if behind == len(self.origins):
             self.origins.append((number, turn))
             self.levels.append(1 if number is None else self.levels[number] + 1)
-        return self.numbers[standing]
+        return behind
 
 
 def number_of(search, value):
     """Return the number of the standing that any value is, or None; integers and flags are told apart."""
-    if not has_shape(value, DEEPEST) or value not in search.numbers:
+    if not has_shape(value, DEEPEST) or value not in search.ground.numbers:
         return None
-    number = search.numbers[value]
+    number = search.ground.numbers[value]
     return number if is_same(value, search.found[number]) else None
 
 

@@ -135,6 +135,41 @@ def round_steps(chance, depth):
     return rows
 
 
+def changed_program(chance, program, error):
+    """Another program that has come from a program by one small change or several."""
+    changed = program
+    for _ in range(chance.choice([1, 1, 2, 3])):
+        try:
+            changed = one_change(chance, changed)
+        except error:
+            pass
+    return changed
+
+
+def one_change(chance, program):
+    if chance.random() < 0.2 or len(program) == 0:
+        return other_head(chance, program)
+    path = chance.choice(program.paths())
+    row = program.row_at(path)
+    label = chance.choice(LABELS[:4])
+    more = chance.choice([("timer", label), ("await", label, "x"), ("put", "x", chance.choice(WORDS)), ("drop", "a"), ("end", "y")])
+    name = chance.choice("ghi")
+    return program.with_rows(path, chance.choice([
+        [], [row, more], [more, row], [("part", [row])], [("gate", name, [more, row], [row])], [("gate", name, [more], [row])],
+        [("gate", name, [], [row])], [("past", name, [row])], [("past", name, [more, row])], [("if", "x", "yes", [more], [row])],
+        [("note", row[1], row[2][:1]) if row[0] == "note" else more], row[3] if row[0] == "gate" else row[1] if row[0] == "part" else [row],
+        [("past",) + row[1:3] if row[0] == "gate" else row], [("part", row[2]) if row[0] in ("gate", "past") else row, more],
+    ]))
+
+
+def other_head(chance, program):
+    asks = {name: chance.choice([words, words[:1], words + ("more",)]) for name, words in program.asks().items()}
+    signals = {name: chance.choice([(room, words), (3, words), (1, words), (room, words + ("more",))])
+               for name, (room, words) in program.signals().items()}
+    inputs = chance.choice([program.inputs(), program.inputs()[:1], program.inputs() + ("more",)])
+    return type(program)(program.rows(), asks=asks, signals=signals, inputs=inputs)
+
+
 def size(rows):
     total = 0
     for row in rows:

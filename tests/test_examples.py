@@ -1,6 +1,8 @@
 """The examples of the interface, as they are printed there."""
 
 import ast
+import doctest
+import pathlib
 import unittest
 
 from openruns import errors
@@ -63,6 +65,40 @@ OUTLOOK = """
 ([('begin', 'go'), ('set',), ('rang', 0), ('set',), ('rang', 1), ('set',)], 2)
 """
 
+COUNTS = """
+>>> from openruns.programs import Program
+>>> from openruns.counts import history_at, how_many
+>>> program = Program([("ask", "pay", "a"), ("await", "a", "x"), ("end", "x")], asks={"pay": ("no", "yes")})
+>>> how_many(program, 2, kind="write")
+2
+>>> history_at(program, 2, 1)
+[('begin', 'go'), ('asked', 'pay'), ('answer', 0, 'yes'), ('ended', 'yes')]
+"""
+
+TEXTS = r"""
+>>> from openruns.texts import history_text
+>>> history_text([("begin", "go"), ("set",), ("rang", 0), ("ended", "done")])
+'begin go\n  set\nrang 0\n  ended done'
+"""
+
+OVER = """
+>>> from openruns.programs import Program
+>>> from openruns.over import parting
+>>> head = [("timer", "t"), ("await", "t", "x")]
+>>> tail = [("await", "u", "x")]
+>>> old = Program(head + [("timer", "u")] + tail)
+>>> new = Program(head + [("timer", "v"), ("timer", "u")] + tail)
+>>> parting(old, new)
+([('begin', 'go'), ('set',), ('rang', 0), ('set',)], 4, 'more')
+>>> gated = Program(head + [("gate", "g", [("timer", "v")], []), ("timer", "u")] + tail)
+>>> parting(old, gated)
+>>> parting(old, Program(head + [("timer", "u")]))
+([('begin', 'go'), ('set',), ('rang', 0), ('set',)], 4, 'more')
+>>> parting(Program(head), old)
+>>> parting(Program(head), old, ended=True)
+([('begin', 'go'), ('set',), ('rang', 0), ('ended', 'done')], 3, 'other')
+"""
+
 
 class ExamplesTest(unittest.TestCase):
     def check(self, text):
@@ -101,6 +137,24 @@ class ExamplesTest(unittest.TestCase):
 
     def test_outlook(self):
         self.check(OUTLOOK)
+
+    def test_counts(self):
+        self.check(COUNTS)
+
+    def test_texts(self):
+        self.check(TEXTS)
+
+    def test_over(self):
+        self.check(OVER)
+
+    def test_the_readme(self):
+        """Its blocks go on from one to the next."""
+        readme = pathlib.Path(__file__).parent.parent / "README.md"
+        text = readme.read_text(encoding="utf-8").replace("```", "")
+        test = doctest.DocTestParser().get_doctest(text, {}, "README", None, None)
+        self.assertGreater(len(test.examples), 20)
+        runner = doctest.DocTestRunner(verbose=False)
+        self.assertEqual(runner.run(test, out=lambda told: None).failed, 0)
 
     def test_a_wrong_example_is_noticed(self):
         for text in (RUNS.replace("('over', 't')", "('over', 'x')"), PROGRAMS.replace("(1,), ", "")):
