@@ -6,10 +6,14 @@ A graph is a list that has for each node the ascending list of the different nod
 
 def nodes_before(behind):
     """Return the graph with all its ways turned round."""
-    before = [[] for nodes in behind]
-    for node, nodes in enumerate(behind):
-        for other in nodes:
-            before[other].append(node)
+    ways = sorted([(other, node) for node, nodes in enumerate(behind) for other in nodes])
+    before = []
+    at = 0
+    for goal in range(len(behind)):
+        start = at
+        while at < len(ways) and ways[at][0] == goal:
+            at += 1
+        before.append([node for other, node in ways[start:at]])
     return before
 
 

@@ -5,7 +5,7 @@ from openruns.moments import standing_of
 from openruns.programs import Program
 from openruns.readers import moment_read
 from openruns.runs import run_at
-from openruns.trails import Trail, has_form, is_outer
+from openruns.trails import gone_over, has_form, is_outer, renumbered, turns_in
 
 
 def check(history):
@@ -17,61 +17,33 @@ def cut(history):
     """Return the turns of a well-formed history."""
     if not isinstance(history, list):
         raise InvalidHistory(-1)
-    if len(history) == 0:
-        raise InvalidHistory(0)
-    trail = Trail()
-    turns = []
-    for at, token in enumerate(history):
-        if not trail.may_go_on(token):
-            raise InvalidHistory(at)
-        trail.go_on(token)
-        if is_outer(token):
-            turns.append([])
-        turns[-1].append(token)
-    return turns
+    flaw = 0 if len(history) == 0 else gone_over(history)[0]
+    if flaw is not None:
+        raise InvalidHistory(flaw)
+    return turns_in(history)
 
 
 def aged(history):
     """Return the turns of a well-formed history with the numbers of things by age."""
-    trail = Trail()
-    return [turn_by_age(trail, turn) for turn in cut(history)]
-
-
-def turn_by_age(trail, turn):
-    """Go over a turn and return it with the numbers of things by age."""
-    told = []
-    for token in turn:
-        trail.go_on(token)
-        told.append(trail.by_age(token))
-    return told
+    check(history)
+    return turns_in(renumbered(history, True))
 
 
 def numbered(turns):
     """Return the history whose turns by age these are."""
-    if not isinstance(turns, list) or len(turns) == 0:
+    if not isinstance(turns, list) or not all([is_like_turn(turn) for turn in turns]):
         raise InvalidArgument("turns")
-    trail = Trail()
-    history = []
-    for turn in turns:
-        history.extend(turn_by_number(trail, turn))
+    history = renumbered([token for turn in turns for token in turn], False)
+    if history is None or len(history) == 0 or gone_over(history)[0] is not None:
+        raise InvalidArgument("turns")
     return history
 
 
-def turn_by_number(trail, turn):
-    """Go over any value that should be a turn by age, and return the turn as the history has it."""
-    if not isinstance(turn, list) or len(turn) == 0:
-        raise InvalidArgument("turns")
-    trail.begin_turn()
-    told = []
-    for number, token in enumerate(turn):
-        if not has_form(token) or is_outer(token) != (number == 0):
-            raise InvalidArgument("turns")
-        named = trail.by_number(token)
-        if not trail.may_go_on(named):
-            raise InvalidArgument("turns")
-        trail.go_on(named)
-        told.append(named)
-    return told
+def is_like_turn(value):
+    """Tell whether any value is a list of an outer token and of commands behind it, by their forms alone."""
+    if not isinstance(value, list) or len(value) == 0 or not all([has_form(token) for token in value]):
+        return False
+    return is_outer(value[0]) and not any([is_outer(token) for token in value[1:]])
 
 
 class Reader:

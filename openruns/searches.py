@@ -17,11 +17,12 @@ class Search:
     For standing k, found[k] is the standing, moments[k] a moment that has it,
     with its things numbered by age, and roads[k] lists, ascending, the turns from
     it, each as the tuple of its tokens by age and the number of the standing
-    behind it. origins[k] is the number of the standing before the last turn of
-    its least history, or None, and this turn; levels[k] is the number of turns of
-    that history. first_falls has, for the words with which turns fall, the number
-    of the first standing from which one does, or None, and the least such turn
-    with the path. used_rows has the numbers of the rows that turns do.
+    behind it; first_roads lists those from the empty beginning. origins[k] is the
+    number of the standing before the last turn of its least history, or None, and
+    this turn; levels[k] is the number of turns of that history. first_falls has,
+    for the words with which turns fall, the number of the first standing from
+    which one does, or None, and the least such turn with the path. used_rows has
+    the numbers of the rows that turns do.
     """
 
     def __init__(self, program, kind, limit):
@@ -36,7 +37,7 @@ class Search:
         self.levels = []
         self.first_falls = {}
         self.used_rows = {}
-        self.roads_from(None)
+        self.first_roads = self.roads_from(None)
         while len(self.roads) < len(self.found):
             self.roads.append(self.roads_from(len(self.roads)))
 

@@ -1,7 +1,7 @@
 """Texts of programs and of histories."""
 
 from openruns.errors import InvalidArgument, InvalidText
-from openruns.forms import FORMS, lists_of
+from openruns.forms import EDIT, FORMS, lists_of
 from openruns.programs import Program
 from openruns.reading import cut
 from openruns.trails import COMMAND_FORMS, OUTER_FORMS, is_outer
@@ -144,7 +144,7 @@ def read_list(source, level):
 
 def parts_of(words):
     """Return the parts of a row ahead of its lists, from the words of its line; none if it is no line of a row."""
-    if not are_some(words) or words[0] not in FORMS:
+    if not are_some(words) or words[0] not in FORMS or words[0] == EDIT:
         return []
     forms = [form for form in FORMS[words[0]] if form not in INNER]
     further = len(words) - 1 - len(forms)

@@ -1,4 +1,4 @@
-"""Trails: the forms of tokens, and what has been gone over of a history, token by token."""
+"""Trails: the forms of tokens, and histories that are gone over token by token."""
 
 from openruns.words import is_integer, is_word
 
@@ -26,64 +26,65 @@ NAMED = {"answer": ("ask",), "rang": ("timer",), "dropped": ("ask", "timer")}
 LAST_WORDS = ("ended", "anew")
 
 
-class Trail:
-    """What has been gone over of a well-formed history.
+def gone_over(tokens):
+    """Go over a list of any values as over a history.
 
-    running holds an ask or a timer for the number of each open thing. things
-    lists, ascending, the numbers of those that were open before the latest turn
-    or were started in it, so the place of a number there is its age; lost lists
-    those among them that are not open any more.
+    Return the index of the first one that is no token that may stand there, or
+    None, and a dict that tells for the number of each thing that is open ahead of
+    it whether it is an ask or a timer.
     """
-
-    def __init__(self):
-        self.length = 0
-        self.started = 0
-        self.running = {}
-        self.things = []
-        self.lost = []
-        self.at_end = False
-
-    def may_go_on(self, token):
-        """Tell whether any value is a token that may stand next."""
-        if self.at_end or not has_form(token):
-            return False
-        if (token[0] == "begin") != (self.length == 0):
-            return False
-        return token[0] not in NAMED or self.running.get(token[1]) in NAMED[token[0]]
-
-    def go_on(self, token):
-        """Go over a token that may stand next."""
-        if is_outer(token):
-            self.begin_turn()
+    running = {}
+    started = 0
+    at_end = False
+    for at, token in enumerate(tokens):
+        if at_end or not has_form(token) or (token[0] == "begin") != (at == 0):
+            return at, running
         if token[0] in STARTED:
-            self.running[self.started] = STARTED[token[0]]
-            self.things.append(self.started)
-            self.started += 1
+            running[started] = STARTED[token[0]]
+            started += 1
         elif token[0] in NAMED:
-            del self.running[token[1]]
-            self.lost.append(token[1])
-        self.length += 1
-        self.at_end = token[0] in LAST_WORDS
+            if running.get(token[1]) not in NAMED[token[0]]:
+                return at, running
+            del running[token[1]]
+        at_end = token[0] in LAST_WORDS
+    return None, running
 
-    def begin_turn(self):
-        """Let the ages of things be those of a new turn."""
-        for number in self.lost:
-            del self.things[place_in(self.things, number)]
-        self.lost = []
 
-    def by_age(self, token):
-        """Return a token that was gone over in the latest turn with its thing numbered by age."""
+def turns_in(tokens):
+    """Return the turns of a history, each a list of tokens."""
+    starts = [at for at, token in enumerate(tokens) if is_outer(token)]
+    ends = starts[1:] + [len(tokens)]
+    return [tokens[start:end] for start, end in zip(starts, ends)]
+
+
+def renumbered(tokens, to_ages):
+    """Return the tokens of a history with things numbered by age, or as the history does if they are by age.
+
+    In the second case, the tokens may be any that have forms of tokens; None is
+    returned if there is no thing of an age that they have.
+    """
+    told = []
+    # The things that were open before the turn or were started in it, so that their places are their ages.
+    things = []
+    lost = {}
+    started = 0
+    for token in tokens:
+        if is_outer(token):
+            for number in sorted(lost):
+                del things[place_in(things, number)]
+            lost = {}
+        if token[0] in STARTED:
+            things.append(started)
+            started += 1
         if token[0] not in NAMED:
-            return token
-        return (token[0], place_in(self.things, token[1])) + token[2:]
-
-    def by_number(self, token):
-        """Return a token by age as the history has it, or None if no thing has this age."""
-        if token[0] not in NAMED:
-            return token
-        if token[1] >= len(self.things):
+            told.append(token)
+            continue
+        if not to_ages and token[1] >= len(things):
             return None
-        return (token[0], self.things[token[1]]) + token[2:]
+        number = token[1] if to_ages else things[token[1]]
+        lost[number] = True
+        told.append((token[0], place_in(things, number) if to_ages else number) + token[2:])
+    return told
 
 
 def is_outer(token):

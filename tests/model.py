@@ -324,9 +324,9 @@ class ReadingWorld(World):
         yield from self.walk(rows, path + (0,))
 
 
-def read_world(program, turns):
+def read_world(program, turns, kind=ReadingWorld):
     """The world behind turns that are read; ModelBreaks if the reading breaks."""
-    world = ReadingWorld(program)
+    world = kind(program)
     start = 0
     for turn in turns:
         world.read_turn(turn, start)

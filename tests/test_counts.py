@@ -220,7 +220,7 @@ class CountsSearchTest(Counted):
     """Against lists of all histories, made by a slow search."""
 
     def test_programs_made_by_chance(self):
-        for seed in range(150):
+        for seed in range(110):
             program = (round_program if seed % 4 == 0 else small_program)(random.Random(seed), Program)
             for kind in KINDS:
                 with self.subTest(seed=seed, kind=kind):

@@ -99,6 +99,61 @@ OVER = """
 ([('begin', 'go'), ('set',), ('rang', 0), ('ended', 'done')], 3, 'other')
 """
 
+ALIKE = """
+>>> from openruns.programs import Program
+>>> from openruns.alike import Language, parted
+>>> one = Program([("timer", "t"), ("await", "t", "x"), ("put", "x", "no"), ("end", "x")])
+>>> Language(one).rows()
+((((('begin', 'go'), ('set',)), 1),), (((('rang', 0), ('ended', 'no')), 2),), ())
+>>> other = Program([("timer", "t"), ("await", "t", "x"), ("end", "x")])
+>>> parted(one, other)
+('read', [('begin', 'go'), ('set',), ('rang', 0), ('ended', 'no')])
+"""
+
+GATES = """
+>>> from openruns.gates import Edited, safe_sets
+>>> one = ("edit", "one", [("put", "s", "new")], [("put", "s", "old")])
+>>> two = ("edit", "two", [("if", "s", "new", [("ask", "pay", "a")], [("ask", "tell", "a")])], [("ask", "pay", "a")])
+>>> asks = {"pay": ("yes",), "tell": ("yes",)}
+>>> edited = Edited([one, two, ("await", "a", "x")], asks=asks)
+>>> safe_sets(edited)
+[(), ('two',), ('one', 'two')]
+"""
+
+EDITIONS = """
+>>> from openruns.programs import Program
+>>> from openruns.editions import Editions
+>>> head = [("timer", "t"), ("await", "t", "x")]
+>>> gate = ("gate", "g", [("ask", "pay", "u")], [("timer", "u")])
+>>> old = Program(head + [("timer", "u"), ("await", "u", "x")])
+>>> new = Program(head + [gate, ("await", "u", "x")], asks={"pay": ("yes",)})
+>>> editions = Editions([old, new])
+>>> editions.first_break()
+>>> editions.safe_since(editions.retired("g"))
+1
+>>> editions.safe_since(editions.retired("g", row="part"))
+2
+>>> (editions + editions.retired("g")).first_break()
+([('begin', 'go'), ('set',), ('rang', 0), ('set',)], ((0, 0), (2, 2)), 3, 'other')
+"""
+
+HOUSE = """
+>>> from openruns.programs import Program
+>>> from openruns.house import House
+>>> old = Program([("timer", "t"), ("await", "t", "x"), ("await", "u", "x")])
+>>> new = Program([("timer", "t"), ("await", "t", "x"), ("end", "x")])
+>>> house = House(old)
+>>> house["one"] = "go"
+>>> house.tell("one", ("rang", 0))
+>>> house.still()
+[('one', ('falls', 'free'))]
+>>> house.outlook(new)
+[]
+>>> house.edition = new
+>>> house["one"]
+[('begin', 'go'), ('set',), ('rang', 0), ('ended', 'rang')]
+"""
+
 
 class ExamplesTest(unittest.TestCase):
     def check(self, text):
@@ -146,6 +201,18 @@ class ExamplesTest(unittest.TestCase):
 
     def test_over(self):
         self.check(OVER)
+
+    def test_alike(self):
+        self.check(ALIKE)
+
+    def test_gates(self):
+        self.check(GATES)
+
+    def test_editions(self):
+        self.check(EDITIONS)
+
+    def test_house(self):
+        self.check(HOUSE)
 
     def test_the_readme(self):
         """Its blocks go on from one to the next."""

@@ -164,7 +164,7 @@ class LanguageTest(unittest.TestCase):
             else:
                 read.add(node.attr)
         self.assertEqual(methods & attributes, set())
-        self.assertEqual(read - methods - attributes - BUILTIN_METHODS, set())
+        self.assertEqual(read - methods - attributes - BUILTIN_METHODS - {"setter"}, set())
         self.assertEqual(attributes & set("items keys values pop update append clear extend insert remove reverse args".split()), set())
 
     def test_no_floats_no_generators_no_identity_of_values(self):
@@ -218,7 +218,8 @@ class LanguageTest(unittest.TestCase):
 
     def test_own_errors_alone_are_caught(self):
         for node in self.each_node(ast.ExceptHandler):
-            self.assertIn(node.type.id, vars(errors))
+            for kind in node.type.elts if isinstance(node.type, ast.Tuple) else [node.type]:
+                self.assertIn(kind.id, vars(errors))
 
     def test_errors_are_created_on_the_spot(self):
         for node in self.each_node(ast.Raise):
