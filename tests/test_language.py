@@ -167,6 +167,40 @@ class LanguageTest(unittest.TestCase):
         self.assertEqual(read - methods - attributes - BUILTIN_METHODS - {"setter"}, set())
         self.assertEqual(attributes & set("items keys values pop update append clear extend insert remove reverse args".split()), set())
 
+    def reached_by_operators(self):
+        """The functions that operators, properties and the like come to, constructors left out."""
+        named, methods, left = {}, {}, []
+        for node in self.each_node(ast.FunctionDef):
+            named.setdefault(node.name, []).append(node)
+        for node in self.each_node(ast.ClassDef):
+            methods.update({part.name: True for part in node.body if isinstance(part, ast.FunctionDef)})
+        for name, nodes in named.items():
+            if re.fullmatch("__(add|and|or|contains|getitem|iter|eq|ne|len)__", name):
+                left += nodes
+            left += [node for node in nodes if "property" in [ast.unparse(decorator) for decorator in node.decorator_list]]
+        reached = []
+        while left:
+            node = left.pop()
+            if node not in reached:
+                reached.append(node)
+                calls = [part for part in ast.walk(node) if isinstance(part, ast.Call)]
+                left += [other for call in calls if isinstance(call.func, ast.Name) or self.called(call) in methods for other in named.get(self.called(call), [])]
+        return reached
+
+    def test_operators_change_only_what_they_created(self):
+        reached = self.reached_by_operators()
+        self.assertGreater(len(reached), 30)
+        for function in reached:
+            own = [node.targets[0].id for node in ast.walk(function) if isinstance(node, ast.Assign) and isinstance(node.targets[0], ast.Name)
+                   and (isinstance(node.value, (ast.List, ast.Dict, ast.ListComp)) or isinstance(node.value, ast.Call) and self.called(node.value) in ("list", "dict", "sorted"))]
+            for node in ast.walk(function):
+                if isinstance(node, (ast.Attribute, ast.Subscript)) and not isinstance(node.ctx, ast.Load):
+                    self.assertIn(ast.unparse(node.value) if isinstance(node, ast.Subscript) else None, own, (function.name, node.lineno))
+                if isinstance(node, ast.Call) and self.called(node) in "append extend insert pop remove clear update reverse setdefault add discard sort".split():
+                    self.assertIn(ast.unparse(node.func.value), own, (function.name, node.lineno))
+                if isinstance(node, ast.AugAssign):
+                    self.assertTrue(isinstance(node.target, ast.Name) and isinstance(node.value, ast.Constant), (function.name, node.lineno))
+
     def test_no_floats_no_generators_no_identity_of_values(self):
         for node in self.each_node(ast.Constant, ast.Div, ast.GeneratorExp, ast.Compare, ast.Set):
             self.assertNotIsInstance(node, (ast.Div, ast.GeneratorExp))
