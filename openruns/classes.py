@@ -16,7 +16,7 @@ def classes_of(ways):
     behind = [[node for turn, node in roads] for roads in ways]
     turns = [tuple([turn for turn, node in roads]) for roads in ways]
     # The beginning is in no class with another node: no other one has begin turns.
-    return ranks_of(split(behind, ranks_of(turns)))
+    return ranks_of(split_classes(behind, ranks_of(turns)))
 
 
 def ranks_of(values):
@@ -28,7 +28,7 @@ def ranks_of(values):
     return [ranks[value] for value in values]
 
 
-def split(behind, begun):
+def split_classes(behind, begun):
     """Split classes until the nodes of each have nodes of the same classes behind them, one by one.
 
     The numbers of the classes that are returned have no order.
